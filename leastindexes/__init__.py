@@ -1,0 +1,1 @@
+"""Least sets of indexes within a room."""

@@ -1,0 +1,77 @@
+"""Answers a list of calls on one object."""
+
+from leastindexes.advisor import Advisor
+
+NO_TABLE = -8
+
+TABLE = 0
+QUESTION = 1
+INDEX = 2
+ROOM = 3
+COSTS = 4
+COST = 5
+LEAST = 6
+
+# By the calls' numbers: index, room, costs, kth, with_offer and check.
+HAVE_NUMBER = (2, 3, 4, 7, 8, 11)
+# By the calls' numbers: table, question, index, cost and check.
+HAVE_ROW = (0, 1, 2, 5, 11)
+
+
+class Call:
+    """A call's number, its whole number (0 if it has none) and its row (empty if it has none)."""
+
+    def __init__(self, kind, number, row):
+        self.kind = kind
+        self.number = number
+        self.row = row
+
+
+def read_calls(calls):
+    read = []
+    place = 0
+    while place < len(calls):
+        kind = calls[place]
+        place += 1
+        number = 0
+        if kind in HAVE_NUMBER:
+            number = calls[place]
+            place += 1
+        row = []
+        if kind in HAVE_ROW:
+            behind = place + 1 + calls[place]
+            row = calls[place + 1:behind]
+            place = behind
+        read.append(Call(kind, number, row))
+    return read
+
+
+def answer_to(advisor, call):
+    if call.kind == TABLE:
+        return advisor.take_table(call.row)
+    if not advisor.has_table():
+        return [NO_TABLE]
+    if call.kind == QUESTION:
+        return advisor.take_question(call.row)
+    if call.kind == INDEX:
+        return advisor.take_index(call.number, call.row)
+    if call.kind == ROOM:
+        return advisor.take_room(call.number)
+    if call.kind == COSTS:
+        return advisor.tell_costs(call.number)
+    if call.kind == COST:
+        return advisor.tell_cost(call.row)
+    if call.kind == LEAST:
+        return advisor.tell_least()
+    # The calls from kth on have no answer yet: an empty one leaves the others' answers in their places.
+    return []
+
+
+def answers(calls):
+    advisor = Advisor()
+    given = []
+    for call in read_calls(calls):
+        answer = answer_to(advisor, call)
+        given.append(len(answer))
+        given.extend(answer)
+    return given
