@@ -36,10 +36,17 @@ def cheapest_way(ways, chosen):
     return best
 
 
+def asking_cost(costs, chosen):
+    """What all questions cost by the whole table and the chosen offers; costs has the question_costs of each."""
+    return sum([ways[cheapest_way(ways, chosen)] for ways in costs])
+
+
+def set_upkeep(offers, chosen):
+    return sum([offers[number].upkeep for number in chosen])
+
+
 def set_cost(costs, offers, chosen):
-    """What a set costs, where costs has the question_costs of each question."""
-    asking = sum([ways[cheapest_way(ways, chosen)] for ways in costs])
-    return asking + sum([offers[number].upkeep for number in chosen])
+    return asking_cost(costs, chosen) + set_upkeep(offers, chosen)
 
 
 def set_room(offers, chosen):
@@ -77,3 +84,22 @@ def sets_in_order(count):
 
 def sets_within(offers, room):
     return [chosen for chosen in sets_in_order(len(offers)) if set_room(offers, chosen) <= room]
+
+
+def least_sets(costs, offers, room):
+    """The sets that cost least within the room, in order."""
+    sets = sets_within(offers, room)
+    set_costs = [set_cost(costs, offers, chosen) for chosen in sets]
+    least = min(set_costs)
+    return [chosen for chosen, cost in zip(sets, set_costs) if cost == least]
+
+
+def least_steps(costs, offers):
+    """The rooms, rising, at which the least cost gets less, each with that cost."""
+    sets = sets_in_order(len(offers))
+    pairs = sorted([(set_room(offers, chosen), set_cost(costs, offers, chosen)) for chosen in sets])
+    steps = []
+    for room, cost in pairs:
+        if len(steps) == 0 or cost < steps[-1][1]:
+            steps.append((room, cost))
+    return steps

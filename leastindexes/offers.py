@@ -11,6 +11,11 @@ ROOM = 3
 COSTS = 4
 COST = 5
 LEAST = 6
+KTH = 7
+WITH_OFFER = 8
+DOMINATED = 9
+PROVE = 10
+CHECK = 11
 
 # By the calls' numbers: index, room, costs, kth, with_offer and check.
 HAVE_NUMBER = (2, 3, 4, 7, 8, 11)
@@ -46,25 +51,44 @@ def read_calls(calls):
     return read
 
 
-def answer_to(advisor, call):
-    if call.kind == TABLE:
-        return advisor.take_table(call.row)
-    if not advisor.has_table():
-        return [NO_TABLE]
+def answer_to_change(advisor, call):
+    """The calls that change what is there; the one that is left at the end is room."""
     if call.kind == QUESTION:
         return advisor.take_question(call.row)
     if call.kind == INDEX:
         return advisor.take_index(call.number, call.row)
-    if call.kind == ROOM:
-        return advisor.take_room(call.number)
+    return advisor.take_room(call.number)
+
+
+def answer_to_other(advisor, call):
+    """The calls that change nothing; the one that is left at the end is frontier."""
     if call.kind == COSTS:
         return advisor.tell_costs(call.number)
     if call.kind == COST:
         return advisor.tell_cost(call.row)
     if call.kind == LEAST:
         return advisor.tell_least()
-    # The calls from kth on have no answer yet: an empty one leaves the others' answers in their places.
-    return []
+    if call.kind == KTH:
+        return advisor.tell_kth(call.number)
+    if call.kind == WITH_OFFER:
+        return advisor.tell_with(call.number)
+    if call.kind == DOMINATED:
+        return advisor.tell_dominated()
+    if call.kind == PROVE:
+        return advisor.tell_proof()
+    if call.kind == CHECK:
+        return advisor.tell_check(call.number, call.row)
+    return advisor.tell_frontier()
+
+
+def answer_to(advisor, call):
+    if call.kind == TABLE:
+        return advisor.take_table(call.row)
+    if not advisor.has_table():
+        return [NO_TABLE]
+    if call.kind in (QUESTION, INDEX, ROOM):
+        return answer_to_change(advisor, call)
+    return answer_to_other(advisor, call)
 
 
 def answers(calls):

@@ -50,6 +50,30 @@ def least():
     return [6]
 
 
+def kth(place):
+    return [7, place]
+
+
+def with_offer(number):
+    return [8, number]
+
+
+def dominated():
+    return [9]
+
+
+def prove():
+    return [10]
+
+
+def check(told_cost, *proof):
+    return [11, told_cost, len(proof), *proof]
+
+
+def frontier():
+    return [12]
+
+
 def question_numbers(filters=(), order=(), backwards=0, wanted=(), limit=0, asked=1):
     numbers = [len(filters)]
     for each in filters:

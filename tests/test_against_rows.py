@@ -1,10 +1,13 @@
-"""Costs, sets and least sets against a second way to find them: row by row, from the words alone."""
+"""What is answered against a second way to find it: row by row and set by set, from the words alone."""
 
 import itertools
+import math
 import random
 import unittest
 
-from tests.helper import ask, cost, costs, least, offer, room, run, table_of
+from tests.helper import (
+    ask, check, cost, costs, dominated, frontier, kth, least, offer, prove, room, run, table_of, with_offer,
+)
 
 
 def rows_of(groups):
@@ -141,36 +144,149 @@ class Maker:
         }
 
 
+class Case:
+    """What a seed makes, and what the words say of it."""
+
+    def __init__(self, seed):
+        maker = Maker(seed)
+        self.source = maker.source
+        self.groups = maker.groups()
+        self.questions = [maker.question() for k in range(self.source.randint(0, 6))]
+        self.offers = [maker.offer() for k in range(self.source.randint(0, 8))]
+        self.rooms = [room_of(self.groups, each) for each in self.offers]
+        self.room = self.source.randint(0, sum(self.rooms) + 1)
+        self.ways = [self.ways_of(asked) for asked in self.questions]
+        self.sets = {}
+        for chosen in all_sets(len(self.offers)):
+            self.sets[chosen] = set_answer(self.ways, self.offers, self.rooms, chosen)
+        self.within = {chosen: told[0] for chosen, told in self.sets.items() if told[1] <= self.room}
+        self.lowest = min(self.within.values())
+        self.least = [chosen for chosen, spent in self.within.items() if spent == self.lowest]
+        self.calls = [table_of(maker.width, self.groups)] + [ask(**asked) for asked in self.questions]
+        self.calls += [offer(**each) for each in self.offers] + [room(self.room)]
+
+    def ways_of(self, asked):
+        return [by_table(self.groups, asked)] + [by_index(self.groups, asked, each) for each in self.offers]
+
+    def told(self):
+        """What is answered to the calls that make the case."""
+        told = [[len(rows_of(self.groups))]] + [[k] for k in range(len(self.questions))]
+        return told + [[k, self.rooms[k]] for k in range(len(self.offers))] + [[self.room]]
+
+    def told_kth(self, place):
+        if place >= len(self.least):
+            return [0]
+        return [1, len(self.least[place]), *self.least[place]]
+
+    def told_with(self, number):
+        have = [spent for chosen, spent in self.within.items() if number in chosen]
+        have_not = [spent for chosen, spent in self.within.items() if number not in chosen]
+        return [min(have) if have else -1, min(have_not)]
+
+    def measures(self, number):
+        """All in which an offer is to be no more than another one."""
+        by_it = [math.inf if each[number + 1] < 0 else each[number + 1] for each in self.ways]
+        return by_it + [self.offers[number]["upkeep"], self.rooms[number]]
+
+    def is_as_good(self, one, other):
+        return all(a <= b for a, b in zip(self.measures(one), self.measures(other)))
+
+    def standing(self, number):
+        for other in range(len(self.offers)):
+            alike = self.is_as_good(number, other)
+            if other != number and self.is_as_good(other, number) and (not alike or number > other):
+                return other
+        saved = 0
+        for each, by_it in zip(self.ways, self.measures(number)):
+            saved += max(0, each[0] - by_it)
+        return -2 if saved <= self.offers[number]["upkeep"] else -1
+
+    def told_dominated(self):
+        standings = [self.standing(number) for number in range(len(self.offers))]
+        mattering = [number for number, standing in enumerate(standings) if standing == -1]
+        return [*standings, len(mattering), *mattering]
+
+    def bound(self, looked_at, chosen):
+        usable = [*chosen, *range(looked_at, len(self.offers))]
+        asking = [min([each[0]] + [each[k + 1] for k in usable if each[k + 1] >= 0]) for each in self.ways]
+        return sum(asking) + sum(self.offers[k]["upkeep"] for k in chosen)
+
+    def has_no_room(self, chosen):
+        return sum(self.rooms[k] for k in chosen) > self.room
+
+    def proof(self, looked_at=0, chosen=()):
+        if self.has_no_room(chosen):
+            return [2]
+        if self.lowest <= self.bound(looked_at, chosen):
+            return [1]
+        first = self.proof(looked_at + 1, (*chosen, looked_at))
+        return [0] + first + self.proof(looked_at + 1, chosen)
+
+    def told_prove(self):
+        proof = self.proof()
+        return [self.lowest, len(proof) - proof.count(0), *proof]
+
+    def random_tree(self, looked_at=0, chosen=()):
+        """A proof, or part of one, and the highest cost that it proves: -1 if it proves none."""
+        step = self.source.choice((0, 0, 1, 2) if looked_at < 8 else (1, 2))
+        if step == 2 and not self.has_no_room(chosen) and self.source.random() < 0.9:
+            step = 1
+        if step == 1:
+            return [1], self.bound(looked_at, chosen)
+        if step == 2:
+            return [2], math.inf if self.has_no_room(chosen) else -1
+        first, highest = self.random_tree(looked_at + 1, (*chosen, looked_at) if looked_at < len(self.offers) else ())
+        second, highest_of_second = self.random_tree(looked_at + 1, chosen)
+        if looked_at >= len(self.offers):
+            return [0, *first, *second], -1
+        return [0, *first, *second], min(highest, highest_of_second)
+
+    def told_frontier(self):
+        pairs = []
+        for given in sorted({told[1] for told in self.sets.values()}):
+            spent = min(told[0] for told in self.sets.values() if told[1] <= given)
+            if not pairs or spent < pairs[-1][1]:
+                pairs.append((given, spent))
+        return [len(pairs)] + [number for pair in pairs for number in pair]
+
+
 class RowByRowTest(unittest.TestCase):
 
-    def check(self, seed):
-        maker = Maker(seed)
-        groups = maker.groups()
-        questions = [maker.question() for k in range(maker.source.randint(0, 6))]
-        offers = [maker.offer() for k in range(maker.source.randint(0, 8))]
-        rooms = [room_of(groups, each) for each in offers]
-        given = maker.source.randint(0, sum(rooms) + 1)
-        ways = [[by_table(groups, asked)] + [by_index(groups, asked, each) for each in offers] for asked in questions]
-        sets = {chosen: set_answer(ways, offers, rooms, chosen) for chosen in all_sets(len(offers))}
-        within = {chosen: told[0] for chosen, told in sets.items() if told[1] <= given}
-        first = min(within, key=lambda chosen: within[chosen])
-        lowest = within[first]
-        looked_at = maker.source.sample(list(sets), min(len(sets), 12))
+    def compare(self, seed, case, calls, told):
+        self.assertLessEqual(len(case.calls) + len(calls), 40)
+        self.assertEqual(run(*case.calls, *calls), case.told() + told, f"seed {seed}")
 
-        calls = [table_of(maker.width, groups)] + [ask(**asked) for asked in questions]
-        calls += [offer(**each) for each in offers] + [room(given)]
-        calls += [costs(k) for k in range(len(questions))] + [least()] + [cost(*chosen) for chosen in looked_at]
-        told = [[len(rows_of(groups))]] + [[k] for k in range(len(questions))]
-        told += [[k, rooms[k]] for k in range(len(offers))] + [[given]]
-        told += [[each[0], len(offers)] + each[1:] for each in ways]
-        told += [[lowest, list(within.values()).count(lowest), len(first), *first]]
-        told += [sets[chosen] for chosen in looked_at]
-        self.assertEqual(run(*calls), told)
-
-    def test_many(self):
+    def test_costs_cost_and_least(self):
         for seed in range(600):
-            with self.subTest(seed=seed):
-                self.check(seed)
+            case = Case(seed)
+            looked_at = case.source.sample(list(case.sets), min(len(case.sets), 12))
+            calls = [costs(k) for k in range(len(case.questions))] + [least()]
+            calls += [cost(*chosen) for chosen in looked_at]
+            told = [[each[0], len(case.offers)] + each[1:] for each in case.ways]
+            told += [[case.lowest, len(case.least), len(case.least[0]), *case.least[0]]]
+            self.compare(seed, case, calls, told + [case.sets[chosen] for chosen in looked_at])
+
+    def test_kth_with_dominated_and_frontier(self):
+        for seed in range(600):
+            case = Case(seed)
+            places = [0, 1, len(case.least) - 1, len(case.least), case.source.randrange(len(case.least))]
+            calls = [kth(place) for place in places] + [with_offer(k) for k in range(len(case.offers))]
+            told = [case.told_kth(place) for place in places]
+            told += [case.told_with(k) for k in range(len(case.offers))]
+            calls += [dominated(), frontier()]
+            self.compare(seed, case, calls, told + [case.told_dominated(), case.told_frontier()])
+
+    def test_prove_and_check(self):
+        for seed in range(600):
+            case = Case(seed)
+            proof = case.proof()
+            calls = [prove(), check(case.lowest, *proof), check(case.lowest + 1, *proof)]
+            told = [case.told_prove(), [1], [0]]
+            for tree, highest in [case.random_tree() for k in range(10)]:
+                if len(tree) <= 600:
+                    calls += [check(max(highest, 0), *tree), check(max(highest, 0) + 1, *tree)]
+                    told += [[1 if highest >= 0 else 0], [0]]
+            self.compare(seed, case, calls, told)
 
 
 if __name__ == "__main__":
